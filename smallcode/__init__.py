@@ -1,0 +1,1 @@
+"""Line code made smaller."""
