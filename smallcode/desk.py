@@ -7,6 +7,10 @@ OUTS = 1
 SMALL = 2
 MAP = 3
 COUNTS = 4
+ALIKE = 5
+TAKE = 6
+LINES = 7
+RUN = 8
 
 
 class UnknownCall(ValueError):
@@ -50,6 +54,16 @@ def answer_next(holder, reader):
         return holder.tell_map(reader.take_number())
     if call == COUNTS:
         return holder.tell_counts(reader.take_number())
+    if call == ALIKE:
+        mode = reader.take_number()
+        first = reader.take_number()
+        return holder.tell_alike(mode, first, reader.take_number())
+    if call == TAKE:
+        return holder.hold_made(reader.take_number())
+    if call == LINES:
+        return holder.tell_lines()
+    if call == RUN:
+        return holder.tell_run(reader.take_row())
     raise UnknownCall(f"no call has the number {call}")
 
 

@@ -1,6 +1,7 @@
 """Calls written as the tests want them, and their answers taken apart."""
 
 import unittest
+from fractions import Fraction
 
 from smallcode.desk import answers
 
@@ -43,6 +44,28 @@ def counts(m):
     return [4, m]
 
 
+def alike(m, i, j):
+    return [5, m, i, j]
+
+
+def take(m):
+    return [6, m]
+
+
+def held():
+    """The call lines, under a name that leaves lines free."""
+    return [7]
+
+
+def run_row(row):
+    return [8, len(row), *row]
+
+
+def run(*point):
+    """The call run, at whole numbers and fractions."""
+    return run_row([number for value in point for number in Fraction(value).as_integer_ratio()])
+
+
 def ask(*calls):
     """The answers to these calls on one new object, a list each."""
     given = answers(flat(calls))
@@ -64,6 +87,11 @@ def last(*calls):
 def told(lines, out_numbers):
     """What small answers for these lines and outs."""
     return [len(lines), *flat(lines), len(out_numbers), *out_numbers]
+
+
+def worth(*values):
+    """What run answers where the outs have these values."""
+    return [0, len(values), *[number for value in values for number in Fraction(value).as_integer_ratio()]]
 
 
 def remade(mode, lines, out_numbers=None, n=3):

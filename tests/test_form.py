@@ -30,6 +30,9 @@ WORDS_OUT = re.compile(
 NAMES_OUT = {"register", "mro", "elements", "open", "input", "version_info", "with_traceback", "add_note", "format",
              "format_map"}
 
+VALUES_OUT = {"items", "keys", "values", "pop", "update", "append", "clear", "extend", "insert", "remove", "reverse",
+              "setdefault", "sort", "args", "encode", "format"}
+
 METHODS_WITH_UNDERSCORES = {"__init__", "__eq__", "__repr__", "__str__", "__len__"}
 
 
@@ -122,6 +125,30 @@ class Form(unittest.TestCase):
             for node in ast.walk(tree):
                 if isinstance(node, ast.Call) and isinstance(node.func, ast.Attribute):
                     self.assertIn(node.func.attr, OWN_METHODS | own, path.name)
+
+    def test_no_name_is_a_method_and_a_value(self):
+        methods = set()
+        stored = set()
+        for _, _, tree in self.files():
+            for node in ast.walk(tree):
+                if isinstance(node, ast.ClassDef):
+                    methods.update(each.name for each in node.body if isinstance(each, ast.FunctionDef))
+                elif isinstance(node, ast.Attribute) and isinstance(node.ctx, ast.Store):
+                    stored.add(node.attr)
+        self.assertFalse(methods & stored)
+        self.assertFalse(stored & VALUES_OUT)
+
+    def test_no_parameter_and_no_local_is_called_like_an_import_or_a_class(self):
+        for path, _, tree in self.files():
+            taken = {node.name for node in tree.body if isinstance(node, ast.ClassDef)}
+            for node in tree.body:
+                if isinstance(node, ast.ImportFrom):
+                    taken.update(name.name for name in node.names)
+            for node in ast.walk(tree):
+                if isinstance(node, ast.arg):
+                    self.assertNotIn(node.arg, taken, path.name)
+                elif isinstance(node, ast.Name) and isinstance(node.ctx, ast.Store):
+                    self.assertNotIn(node.id, taken, path.name)
 
     def test_each_name_once_at_the_top(self):
         for path, _, tree in self.files():

@@ -1,10 +1,10 @@
-"""Promises 3 to 5 over many codes: no value is changed, and small, map and counts agree."""
+"""Promises 3 to 9 over many codes: no value is changed, and the calls agree."""
 
 import random
 import unittest
 from fractions import Fraction
 
-from tests.helper import ask, code, counts, outs, small, went
+from tests.helper import NUMBER_MOST, alike, ask, code, counts, held, last, outs, run, small, take, told, went, worth
 
 CODES = 150
 INPUTS = 3
@@ -58,15 +58,27 @@ def values_at(lines, point):
     return values
 
 
-def lines_of(told):
+def run_answer(lines, out_numbers, point):
+    """What run must answer."""
+    values = values_at(lines, point)
+    if len(values) == len(lines):
+        return worth(*[values[out] for out in out_numbers])
+    return [1, len(values), 1 if line_value(lines[len(values)], values, point) is None else 2]
+
+
+def lines_of(row):
     """The lines and the outs that small answered."""
     lines = []
     at = 1
-    for _ in range(told[0]):
-        length = 2 if told[at] in (0, 6) else 3
-        lines.append(tuple(told[at:at + length]))
+    for _ in range(row[0]):
+        length = 2 if row[at] in (0, 6) else 3
+        lines.append(tuple(row[at:at + length]))
         at += length
-    return lines, told[at + 1:at + 1 + told[at]]
+    return lines, row[at + 1:at + 1 + row[at]]
+
+
+def in_lowest_terms(line):
+    return (1, *Fraction(line[1], line[2]).as_integer_ratio()) if line[0] == 1 else line
 
 
 def used(line):
@@ -81,11 +93,13 @@ def three(lines):
 
 
 class Values(unittest.TestCase):
+    def codes(self):
+        chance = random.Random(20)
+        return [some_code(chance) for _ in range(CODES)]
+
     def for_each(self, check):
         """Calls check(mode, lines, outs, small's answer, map's, counts') for each code and mode."""
-        chance = random.Random(20)
-        for number in range(CODES):
-            lines, out_numbers = some_code(chance)
+        for number, (lines, out_numbers) in enumerate(self.codes()):
             for mode in range(16):
                 with self.subTest(number=number, mode=mode, lines=lines, outs=out_numbers):
                     answered = ask(code(INPUTS, *lines), outs(*out_numbers), small(mode), went(mode), counts(mode))
@@ -95,8 +109,8 @@ class Values(unittest.TestCase):
     def test_no_value_is_changed(self):
         self.for_each(self.check_values)
 
-    def check_values(self, mode, lines, out_numbers, told, mapped, counted):
-        made, _ = lines_of(told)
+    def check_values(self, mode, lines, out_numbers, made_row, mapped, counted):
+        made, _ = lines_of(made_row)
         for point in POINTS:
             new = values_at(made, point)
             # Where the old run ends early, only what it worked out is compared.
@@ -107,8 +121,8 @@ class Values(unittest.TestCase):
     def test_the_answers_agree(self):
         self.for_each(self.check_answers)
 
-    def check_answers(self, mode, lines, out_numbers, told, mapped, counted):
-        made, made_outs = lines_of(told)
+    def check_answers(self, mode, lines, out_numbers, made_row, mapped, counted):
+        made, made_outs = lines_of(made_row)
         self.assertEqual(mapped[0], len(lines))
         self.assertEqual(len(mapped), len(lines) + 1)
         self.assertEqual(made_outs, [mapped[1 + out] for out in out_numbers])
@@ -120,8 +134,8 @@ class Values(unittest.TestCase):
     def test_new_code_is_of_the_form(self):
         self.for_each(self.check_form)
 
-    def check_form(self, mode, lines, out_numbers, told, mapped, counted):
-        made, _ = lines_of(told)
+    def check_form(self, mode, lines, out_numbers, made_row, mapped, counted):
+        made, _ = lines_of(made_row)
         for at, line in enumerate(made):
             self.assertTrue(all(0 <= i < at for i in used(line)))
             if line[0] == 1:
@@ -132,8 +146,8 @@ class Values(unittest.TestCase):
     def test_no_line_twice_with_share(self):
         self.for_each(self.check_shared)
 
-    def check_shared(self, mode, lines, out_numbers, told, mapped, counted):
-        made, _ = lines_of(told)
+    def check_shared(self, mode, lines, out_numbers, made_row, mapped, counted):
+        made, _ = lines_of(made_row)
         if mode & 1:
             self.assertEqual(len(set(made)), len(made))
             self.assertFalse([line for line in made if line[0] in (2, 4) and line[1] > line[2]])
@@ -141,11 +155,68 @@ class Values(unittest.TestCase):
     def test_no_dead_line_with_mode_8(self):
         self.for_each(self.check_alive)
 
-    def check_alive(self, mode, lines, out_numbers, told, mapped, counted):
-        made, made_outs = lines_of(told)
+    def check_alive(self, mode, lines, out_numbers, made_row, mapped, counted):
+        made, made_outs = lines_of(made_row)
         if mode & 8:
             needed = {*made_outs, *(i for line in made for i in used(line))}
             self.assertEqual(needed, {*range(len(made))})
+
+    def test_run_answers_what_the_lines_are_worth(self):
+        faults = []
+        for lines, out_numbers in self.codes():
+            with self.subTest(lines=lines, outs=out_numbers):
+                answered = ask(code(INPUTS, *lines), outs(*out_numbers), *[run(*point) for point in POINTS])
+                expected = [run_answer(lines, out_numbers, point) for point in POINTS]
+                self.assertEqual(answered[2:], expected)
+                faults.extend(answer[2] if answer[0] == 1 else 0 for answer in expected)
+        # So that a change of the codes doesn't leave one of the ways untried.
+        self.assertEqual({*faults}, {0, 1, 2})
+
+    def test_take_holds_what_is_made(self):
+        self.for_each(self.check_take)
+
+    def check_take(self, mode, lines, out_numbers, made_row, mapped, counted):
+        runs = [run(*point) for point in POINTS]
+        answered = ask(code(INPUTS, *lines), outs(*out_numbers), *runs, take(mode), held(), *runs)
+        before = answered[2:2 + len(runs)]
+        after = answered[-len(runs):]
+        self.assertEqual(answered[2 + len(runs):-len(runs)], [[made_row[0]], made_row])
+        for old, new, point in zip(before, after, POINTS):
+            self.assertEqual(new, run_answer(*lines_of(made_row), point))
+            if old[0] == 0:
+                self.assertEqual(new, old)
+
+    def test_after_take_it_is_as_if_told_anew(self):
+        self.for_each(self.check_taken)
+
+    def check_taken(self, mode, lines, out_numbers, made_row, mapped, counted):
+        made, made_outs = lines_of(made_row)
+        # Folds may make constants that can't be told to code.
+        if max(map(abs, made_row)) > NUMBER_MOST:
+            return
+        other = (mode * 7 + 3) % 16
+        asked = [small(other), went(other), counts(other), take(other), held(), small(mode)]
+        by_take = ask(code(INPUTS, *lines), outs(*out_numbers), take(mode), *asked)
+        anew = ask(code(INPUTS, *made), outs(*made_outs), *asked)
+        self.assertEqual(by_take[3:], anew[2:])
+
+    def test_lines_tells_the_code(self):
+        for lines, out_numbers in self.codes():
+            answered = last(code(INPUTS, *lines), outs(*out_numbers), held())
+            self.assertEqual(answered, told([in_lowest_terms(line) for line in lines], out_numbers))
+
+    def test_alike_is_one_new_line_before_dead_ones_are_left_out(self):
+        self.for_each(self.check_alike)
+
+    def check_alike(self, mode, lines, out_numbers, made_row, mapped, counted):
+        places = last(code(INPUTS, *lines), went(mode & 7))[1:]
+        chance = random.Random(len(lines) * 16 + mode)
+        some = [chance.randrange(len(lines)) for _ in range(6)]
+        pairs = [(at, chance.randrange(len(lines))) for at in some]
+        # Lines by chance are seldom alike, so each is asked beside the first that went where it did, too.
+        pairs += [(at, places.index(places[at])) for at in some]
+        answered = ask(code(INPUTS, *lines), outs(*out_numbers), *[alike(mode, i, j) for i, j in pairs])
+        self.assertEqual(answered[2:], [[int(places[i] == places[j])] for i, j in pairs])
 
 
 if __name__ == "__main__":
